@@ -328,3 +328,15 @@ func TestOldestKey(t *testing.T) {
 		}
 	}
 }
+
+// The ID of the oldest key of a full ring may be that of the next one, which does not open what the oldest one sealed.
+func TestIDThatComesBack(t *testing.T) {
+	r := ring(5, 3, 2, 6)
+	b := standardMake(t, r.Keys[3], 15, pair(), nonce())
+	checkOpen(t, r, b, opened{15, pair(), 3, api.OK})
+	next, e := cookie.Rotate(r)
+	if e != api.OK || next.Keys[0].ID != 6 {
+		t.Fatalf("Rotate is %v and %v", next, e)
+	}
+	checkOpen(t, next, b, opened{e: api.ErrAuth})
+}
